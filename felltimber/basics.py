@@ -42,6 +42,11 @@ def joined(pairs):
     return tuple(row)
 
 
+def many_at(pairs, thing):
+    """The many of the pair of this thing, 0 where there is none."""
+    return sum([many for other, many in pairs if other == thing])
+
+
 def run_of(text, at, signs):
     """The longest piece of a text from a place on that has these signs alone; perhaps nothing."""
     end = at

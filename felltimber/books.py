@@ -2,12 +2,14 @@
 
 from felltimber.basics import is_name
 from felltimber.errors import NoBook, NoKind
-from felltimber.trees import is_grove, pairs_within
+from felltimber.trees import is_grove, kinds_within, pairs_within
 
 MOST_KINDS = 8
 MOST_RULES = 4
 MOST_RULE_PARTS = 4
 MOST_MANY = 10 ** 9
+
+NO_GROVES = ((), ())
 
 
 class Book:
@@ -26,15 +28,30 @@ class Book:
 
     def spreads(self, name):
         """Whether the kind spreads; NoKind where it is none of the book's."""
-        if name not in self.spread_by_name:
-            raise NoKind(name)
+        check_kind(self, name)
         return self.spread_by_name[name]
 
     def rules(self, name):
         """The rules of the kind from 1 on; NoKind where it is none of the book's."""
-        if name not in self.rows_by_name:
-            raise NoKind(name)
+        check_kind(self, name)
         return list(self.rows_by_name[name])
+
+
+def rules_from_nought(book, name):
+    """The rules of a kind, each at its own number: rule 0, which lays nothing, is the first."""
+    return [NO_GROVES] + book.rules(name)
+
+
+def check_kind(book, name):
+    """NoKind where a text is none of a book's kinds."""
+    if name not in book.names():
+        raise NoKind(name)
+
+
+def check_kinds(book, grove):
+    """NoKind where kinds stand in a grove that a book has not: of the least of them."""
+    for kind in kinds_within(grove):
+        check_kind(book, kind)
 
 
 def are_kinds(things):

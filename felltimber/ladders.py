@@ -33,6 +33,14 @@ def is_less(one, other):
     return one < other
 
 
+def alike_ahead(one, other):
+    """How many pairs two ladders begin with that are alike."""
+    at = 0
+    while at < min(len(one), len(other)) and one[at] == other[at]:
+        at += 1
+    return at
+
+
 def parts(ladder):
     """One for each pair, and the parts of its exponent."""
     return sum([1 + parts(exponent) for exponent, many in ladder])

@@ -19,6 +19,20 @@ def tree_at(grove, place):
     return tree
 
 
+def number_of(grove, tree):
+    """The number of the pair of a tree that stands in a grove."""
+    return [pair[0] for pair in grove].index(tree)
+
+
+def all_places(grove):
+    """The places of all trees of a grove, sorted."""
+    found = []
+    for at, pair in enumerate(grove):
+        found.append((at,))
+        found.extend([(at,) + place for place in all_places(pair[0][1])])
+    return found
+
+
 def bare_places(grove):
     """The places of all bare trees of a grove, sorted."""
     # Row by row and inward, so the places come in their order.

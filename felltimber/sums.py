@@ -1,8 +1,8 @@
 """Sums of ladders: one behind the other, both together, so many of one, and the rest up to another."""
 
-from felltimber.basics import joined
+from felltimber.basics import joined, many_at
 from felltimber.errors import NoRest
-from felltimber.ladders import is_less
+from felltimber.ladders import alike_ahead, is_less
 
 
 def behind(one, other):
@@ -15,14 +15,16 @@ def behind(one, other):
     return kept + ((exponent, alike + many),) + other[1:]
 
 
-def many_at(ladder, exponent):
-    """The many of a ladder's pair of this exponent, 0 where there is none."""
-    return sum([pair[1] for pair in ladder if pair[0] == exponent])
-
-
 def both(one, other):
     """Both ladders together."""
-    return joined(sorted(one + other, reverse=True))
+    return all_together([one, other])
+
+
+def all_together(some):
+    """All ladders of a list together."""
+    # One sort of all pairs: ladder by ladder, a long row of long ones would be sorted anew each time.
+    pairs = [pair for ladder in some for pair in ladder]
+    return joined(sorted(pairs, reverse=True))
 
 
 def many_of(ladder, many):
@@ -36,9 +38,7 @@ def rest(one, other):
     """The ladder that, behind the one, gives the other; NoRest where the other is less."""
     if is_less(other, one):
         raise NoRest("the other ladder is less than the one")
-    at = 0
-    while at < len(one) and one[at] == other[at]:
-        at += 1
+    at = alike_ahead(one, other)
     if at == len(one) or one[at][0] != other[at][0]:
         return other[at:]
     exponent, many = other[at]

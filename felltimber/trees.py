@@ -39,6 +39,24 @@ def together(one, other):
     return joined(sorted(one + other))
 
 
+def without(grove, tree, many):
+    """A grove without so many of a tree, of which no fewer stand there."""
+    left = []
+    for other, count in grove:
+        if other != tree:
+            left.append((other, count))
+        elif count > many:
+            left.append((other, count - many))
+    return tuple(left)
+
+
+def times(grove, many):
+    """Each many of a grove so many times."""
+    if many == 0:
+        return ()
+    return tuple([(tree, count * many) for tree, count in grove])
+
+
 def pairs_within(grove):
     """All pairs that stand anywhere in a grove, also in what its trees hold."""
     found = []
@@ -46,6 +64,11 @@ def pairs_within(grove):
         found.append(pair)
         found.extend(pairs_within(pair[0][1]))
     return found
+
+
+def kinds_within(grove):
+    """The kinds of which trees stand anywhere in a grove, sorted, each once."""
+    return sorted({tree[0] for tree, many in pairs_within(grove)})
 
 
 def parts_of(grove):

@@ -1,6 +1,8 @@
-"""Ladders, groves and odd things for the tests, made by a fixed seed: each run makes the same ones."""
+"""Ladders, groves, books and odd things for the tests, made by a fixed seed: each run makes the same ones."""
 
 import random
+
+from felltimber.books import Book
 
 SIXTY = 10 ** 59
 SIXTY_NINES = 10 ** 60 - 1
@@ -86,10 +88,82 @@ def names_of(many):
 
 def spoiled(text):
     """Texts near a text: a sign taken away, put in, doubled, or changed, at each place."""
-    signs = " \t\n+-*_[]{},.z0a19A"
+    signs = " \t\n+-*_[]{},.;>/z0a19A"
     near = []
     for at in range(len(text) + 1):
         near.append(text[:at] + text[at + 1:])
         near.extend(text[:at] + sign + text[at:] for sign in signs)
         near.extend(text[:at] + sign + text[at + 1:] for sign in signs)
     return near
+
+
+def put_together(pairs):
+    """The grove of pairs, by the document's words."""
+    row = []
+    for tree in sorted(pair[0] for pair in pairs):
+        if not row or row[-1][0] != tree:
+            row.append((tree, sum(many for other, many in pairs if other == tree)))
+    return tuple(row)
+
+
+def grove_on(chance, names, most, manys=(1, 1, 2, 3)):
+    """A grove of at most so many parts, of trees of these names alone."""
+    pairs = []
+    left = most
+    while names and left:
+        taken = chance.randint(1, left)
+        left -= taken
+        pairs.append(((chance.choice(names), grove_on(chance, names, taken - 1, manys)), chance.choice(manys)))
+    return put_together(pairs)
+
+
+def random_rule(chance, names, manys):
+    once = chance.randint(0, 4)
+    return grove_on(chance, names, once, manys), grove_on(chance, names, chance.randint(0, 4 - once), manys)
+
+
+def random_kinds(chance, ending, manys=(1, 1, 2, 3)):
+    """What a book is made of; where it is to end, no kind leads to itself, in however many steps."""
+    names = chance.sample(["a", "ab", "b", "c", "d", "e", "oak", "abcdefgh"], chance.randint(1, 8))
+    rows = []
+    for at, name in enumerate(names):
+        may = names[:at] if ending else names
+        rules = [random_rule(chance, may, manys) for turn in range(chance.randint(0, chance.choice([1, 2, 4])))]
+        rows.append((name, chance.random() < 0.5, rules))
+    chance.shuffle(rows)
+    return rows
+
+
+def books(seed, many, ending=True, manys=(1, 1, 2, 3)):
+    chance = random.Random(seed)
+    return [Book(random_kinds(chance, ending, manys)) for turn in range(many)]
+
+
+def books_and_groves(seed, many, ending=True, most=10, manys=(1, 1, 2, 3)):
+    """Pairs of a book and a grove of its kinds."""
+    chance = random.Random(seed)
+    return [(book, grove_on(chance, book.names(), most, manys)) for book in books(seed, many, ending)]
+
+
+def places_with_trees(grove, ahead=()):
+    """All places of a grove with the trees there."""
+    row = []
+    for at, (tree, many) in enumerate(grove):
+        row.append((ahead + (at,), tree))
+        row.extend(places_with_trees(tree[1], ahead + (at,)))
+    return row
+
+
+def kinds_of(grove):
+    return sorted({tree[0] for place, tree in places_with_trees(grove)})
+
+
+def all_rules(book, name):
+    """The rules of a kind by their numbers, rule 0 too."""
+    return [((), ())] + book.rules(name)
+
+
+def all_falls(book, grove):
+    """All tuples (place, rule) of a grove, by the document's words."""
+    bare = [(place, tree) for place, tree in places_with_trees(grove) if tree[1] == ()]
+    return [(place, rule) for place, tree in bare for rule in range(len(all_rules(book, tree[0])))]

@@ -4,16 +4,7 @@ from felltimber.errors import NoPlace
 from felltimber.grovetexts import read_grove
 from felltimber.places import bare_places, tree_at
 from felltimber.trees import parts_of
-from tests.makers import groves, odd_things, stem
-
-
-def all_places(grove, ahead=()):
-    """All places of a grove with the trees there."""
-    row = []
-    for at, (tree, many) in enumerate(grove):
-        row.append((ahead + (at,), tree))
-        row.extend(all_places(tree[1], ahead + (at,)))
-    return row
+from tests.makers import groves, odd_things, places_with_trees, stem
 
 
 class TreeAt(unittest.TestCase):
@@ -24,7 +15,7 @@ class TreeAt(unittest.TestCase):
 
     def test_each_place(self):
         for grove in groves(1, 200) + [stem(12), stem(60)]:
-            places = all_places(grove)
+            places = places_with_trees(grove)
             self.assertEqual(len(places), parts_of(grove))
             for place, tree in places:
                 self.assertEqual(tree_at(grove, place), tree)
@@ -46,7 +37,7 @@ class TreeAt(unittest.TestCase):
             self.refused(grove, (10 ** 60,))
             self.refused(grove, (-1,))
             self.refused(grove, (-len(grove),) if grove else (0,))
-            for place, tree in all_places(grove):
+            for place, tree in places_with_trees(grove):
                 self.refused(grove, place + (len(tree[1]),))
                 self.refused(grove, place + (-1,))
                 self.refused(grove, place[:-1] + (-1,))
@@ -78,7 +69,7 @@ class BarePlaces(unittest.TestCase):
 
     def test_all_of_many_groves_sorted(self):
         for grove in groves(4, 300) + [stem(12), stem(60)]:
-            wanted = sorted(place for place, tree in all_places(grove) if tree[1] == ())
+            wanted = sorted(place for place, tree in places_with_trees(grove) if tree[1] == ())
             self.assertEqual(bare_places(grove), wanted)
 
     def test_a_row_of_more_than_ten(self):
