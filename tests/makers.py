@@ -167,3 +167,14 @@ def all_falls(book, grove):
     """All tuples (place, rule) of a grove, by the document's words."""
     bare = [(place, tree) for place, tree in places_with_trees(grove) if tree[1] == ()]
     return [(place, rule) for place, tree in bare for rule in range(len(all_rules(book, tree[0])))]
+
+
+def lesser(chance, ladder):
+    """A ladder that is less than one that is not nought."""
+    at = chance.randrange(len(ladder))
+    exponent, many = ladder[at]
+    left = chance.choice([0, many - 1, many // 2]) if many > 1 else 0
+    head = ladder[:at] + (((exponent, left),) if left else ())
+    tail = sorted([lesser(chance, exponent) for turn in range(chance.randint(0, 2))] if exponent else [], reverse=True)
+    unlike = [other for place, other in enumerate(tail) if other not in tail[:place]]
+    return head + tuple((other, chance.choice([1, 2, SIXTY])) for other in unlike)
