@@ -151,6 +151,9 @@ class Words(unittest.TestCase):
                     self.assertNotIn("%", node.value, name)
             if isinstance(node, ast.BinOp) and isinstance(node.op, ast.Pow):
                 self.assertIsInstance(node.right, ast.Constant, name)
+                self.assertIn(node.right.value, range(65), name)
+            if isinstance(node, ast.FormattedValue):
+                self.assertIsNone(node.format_spec, name)
 
     def test_is_stands_beside_none_true_and_false(self):
         for name, node in all_nodes():
