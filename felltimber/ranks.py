@@ -46,7 +46,11 @@ def reckoned(book, worths, grove):
 def reckoned_tree(book, worths, tree):
     """The ladder of a tree, reckoned as ranks are by a ladder for each kind."""
     kind, held = tree
-    inner = reckoned(book, worths, held)
+    return laden(book, kind, worths[kind], reckoned(book, worths, held))
+
+
+def laden(book, kind, own, inner):
+    """The ladder of a tree by that of its kind and that of the grove that it holds."""
     if book.spreads(kind):
-        return spread(worths[kind], inner)
-    return behind(worths[kind], inner)
+        return spread(own, inner)
+    return behind(own, inner)

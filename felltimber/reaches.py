@@ -76,7 +76,7 @@ def fall_of_bare(book, owns, kind, goal):
     # The rule by which the own rank is so great: what it lays comes above each lesser ladder.
     at = [climb(book, owns, rule) for rule in rows].index(owns[kind])
     once, each = rows[at]
-    laid = reckoned(book, owns, each)
-    if not laid or not is_less(reckoned(book, owns, once), goal):
+    if not is_less(reckoned(book, owns, once), goal):
         return at, 0
-    return at, 1 + many_at(goal, laid[0][0])
+    # What grows once is too little, so that something grows as often as is said: one more than the goal has of it.
+    return at, 1 + many_at(goal, reckoned(book, owns, each)[0][0])
